@@ -1,0 +1,1 @@
+"""A ring of lanes that rights itself."""
