@@ -2,7 +2,11 @@
 
 from rightring.lanes import answers
 
-RING, SET, HIT, RIGHTS, MOVE, TOGETHER, RUN, SETTLED = range(8)
+(RING, SET, HIT, RIGHTS, MOVE, TOGETHER, RUN, SETTLED, WORST, WORST_OF_ALL, SCHEDULE, ENDLESS, REPAIR, LEAST_COUNTERS,
+ TURNS, STATE) = range(16)
+
+# Those that look at every state of the ring, in a mode.
+OVER_STATES = (WORST, WORST_OF_ALL, SCHEDULE, ENDLESS, REPAIR)
 
 HUGE = 1000000000000000000
 
@@ -45,6 +49,13 @@ def ask(*calls):
 def last(*calls):
     """The answer to the last of these calls."""
     return ask(*calls)[-1]
+
+
+def moved(*calls):
+    """How often each lane moved by these calls."""
+    told = last(*calls, (TURNS,))
+    assert told[0] == len(told) - 1, told
+    return told[1:]
 
 
 def counter_of(calls, n, k, lane):

@@ -4,7 +4,8 @@ import contextlib
 import io
 import unittest
 
-from helper import HIT, HUGE, MOVE, RIGHTS, RING, RUN, SET, SETTLED, TOGETHER, ask, flat
+from helper import (ENDLESS, HIT, HUGE, LEAST_COUNTERS, MOVE, REPAIR, RIGHTS, RING, RUN, SCHEDULE, SET, SETTLED, STATE,
+                    TOGETHER, TURNS, WORST, WORST_OF_ALL, ask, flat)
 from rightring.lanes import answers
 
 
@@ -19,13 +20,24 @@ class FrozenList(list):
 
 
 LONG = flat([(RING, 6, 16), (SET, [15, 0, 15, 0, 15, 0]), (RUN, [3, 1, 4] * 20), (TOGETHER, [0]), (RIGHTS,),
-             (MOVE, 0), (SET, [0] * 100), (HIT, 3, 15), (SETTLED,), (RUN, []), (RIGHTS,)])
+             (MOVE, 0), (SET, [0] * 100), (HIT, 3, 15), (SETTLED,), (RUN, []), (RIGHTS,), (WORST, 0), (STATE,),
+             (RING, 3, 2), (REPAIR, 0), (SET, [0, 1, 0]), (WORST, 0), (WORST_OF_ALL, 0), (SCHEDULE, 0), (ENDLESS, 1),
+             (MOVE, 1), (REPAIR, 0), (LEAST_COUNTERS, 4, 1), (TURNS,), (STATE,)])
 
 
 class InterfaceTest(unittest.TestCase):
     def test_the_answers_number_by_number(self):
         calls = [0, 3, 4, 1, 3, 3, 1, 3, 3, 7, 5, 2, 0, 2, 4, 1, 6, 1, 0, 2, 0, 9]
         self.assertEqual(answers(calls), [1, 0, 1, 0, 4, 3, 0, 1, 2, 1, 0, 2, 1, 1, 1, 0, 2, 1, 0, 1, -1])
+
+    def test_the_answers_of_the_places_8_to_15(self):
+        calls = [13, 3, 1, 0, 3, 2, 1, 3, 0, 1, 0, 8, 0, 9, 0, 10, 0, 11, 1, 12, 0, 4, 1, 12, 0, 14, 15]
+        self.assertEqual(answers(calls), [1, 3, 1, 0, 1, 0, 1, 1, 5, 1, 3, 0, 1, 0, 2, 1, 1, 4, 0, 2, 7, 7, 1, -6, 1, 0,
+                                          1, 1, 4, 3, 0, 1, 0, 10, 3, 2, 3, 0, 0, 0, 3, 0, 1, 0])
+
+    def test_the_refusals_of_the_places_8_to_15(self):
+        calls = [8, 0, 9, 0, 10, 0, 11, 0, 12, 0, 13, 1, 0, 14, 15, 0, 6, 3, 8, 2, 9, 1, 10, 1, 11, 1, 12, 1, 13, 2, 2]
+        self.assertEqual(answers(calls), [1, -2] * 5 + [1, -1] + [1, -2] * 2 + [1, 0, 1, -1] + [1, -8] * 4 + [1, -1])
 
     def test_a_refusal_is_its_number_alone(self):
         calls = [3, 1, 2, 0, 0, 0, 2, 2, 5, 0, 4, 1, 5, 1, 1, 6, 1, -1]
@@ -38,7 +50,9 @@ class InterfaceTest(unittest.TestCase):
 
     def test_one_call_alone(self):
         self.assertEqual(answers([7]), [1, -2])
+        self.assertEqual(answers([15]), [1, -2])
         self.assertEqual(answers([0, 2, 1]), [1, 0])
+        self.assertEqual(answers([13, 4, 0]), [1, 3])
 
     def test_what_is_handed_in_is_not_changed(self):
         handed = FrozenList(LONG)
@@ -51,6 +65,13 @@ class InterfaceTest(unittest.TestCase):
         first.clear()
         self.assertEqual(answers(LONG), wanted)
         self.assertEqual(answers([3]), [1, -2])
+        self.assertEqual(answers([8, 0]), [1, -2])
+
+    def test_what_is_given_back_is_not_kept(self):
+        wanted = ask((RING, 3, 3), (STATE,), (WORST_OF_ALL, 1), (STATE,))
+        told = answers(flat([(RING, 3, 3), (STATE,)]))
+        told[:] = [9] * len(told)
+        self.assertEqual(ask((RING, 3, 3), (STATE,), (WORST_OF_ALL, 1), (STATE,)), wanted)
 
     def test_400_calls(self):
         row = [1000000000] * 36

@@ -10,7 +10,7 @@ PACKAGE = pathlib.Path(__file__).resolve().parent.parent / "rightring"
 FILES = sorted(path for path in PACKAGE.rglob("*") if path.is_file() and "__pycache__" not in path.parts)
 
 STATEMENTS = (ast.FunctionDef, ast.ClassDef, ast.Assign, ast.AugAssign, ast.If, ast.While, ast.For, ast.Return,
-              ast.Break, ast.Continue, ast.Pass, ast.Raise, ast.Try, ast.Expr)
+              ast.Break, ast.Continue, ast.Pass, ast.Raise, ast.Try, ast.Expr, ast.ImportFrom)
 EXPRESSIONS_OUT = (ast.SetComp, ast.DictComp, ast.GeneratorExp, ast.NamedExpr, ast.Starred, ast.Div, ast.Set,
                    ast.Await, ast.Yield, ast.YieldFrom)
 OWN_NAMES = """len range enumerate zip min max sum abs sorted reversed int str bool list tuple dict set frozenset
@@ -34,7 +34,7 @@ def nodes(kind):
 
 class LanguageTest(unittest.TestCase):
     def test_files(self):
-        self.assertEqual([path.name for path in FILES], ["__init__.py", "lanes.py"])
+        self.assertEqual([path.name for path in FILES], ["__init__.py", "lanes.py", "states.py", "ways.py"])
 
     def test_size_and_signs(self):
         for path in FILES:
@@ -45,8 +45,44 @@ class LanguageTest(unittest.TestCase):
         for path, node in nodes(ast.FunctionDef):
             self.assertLessEqual(node.end_lineno - node.lineno + 1, 40, node.name)
 
-    def test_nothing_is_imported(self):
-        self.assertEqual(nodes((ast.Import, ast.ImportFrom)), [])
+    def test_imports(self):
+        self.assertEqual(nodes(ast.Import), [])
+        made = {path.stem: [getattr(node, "name", None) or node.targets[0].id for node in tree.body
+                            if isinstance(node, (ast.FunctionDef, ast.ClassDef, ast.Assign))] for path, tree in trees()}
+        # A file draws only from those before it here, so no two draw from one another.
+        order = ["states", "ways", "lanes"]
+        for path, node in nodes(ast.ImportFrom):
+            package, name = node.module.split(".")
+            self.assertEqual((package, node.level), ("rightring", 0))
+            self.assertLess(order.index(name), order.index(path.stem))
+            for alias in node.names:
+                self.assertIn(alias.name, made[name])
+                self.assertIsNone(alias.asname)
+
+    def test_no_local_is_called_like_a_class_or_an_import(self):
+        for path, tree in trees():
+            top = [alias.name for node in tree.body if isinstance(node, ast.ImportFrom) for alias in node.names]
+            top += [node.name for node in tree.body if isinstance(node, (ast.ClassDef, ast.FunctionDef))]
+            local = [node.arg for node in ast.walk(tree) if isinstance(node, ast.arg)]
+            local += [node.id for node in ast.walk(tree) if isinstance(node, ast.Name) and isinstance(node.ctx, ast.Store)]
+            self.assertEqual(set(top) & set(local), set(), path)
+            self.assertEqual(len(top), len(set(top)), path)
+
+    def test_nothing_is_kept_at_the_top(self):
+        for path, tree in trees():
+            for node in tree.body:
+                if isinstance(node, ast.Assign):
+                    for part in ast.walk(node.value):
+                        self.assertNotIsInstance(part, (ast.List, ast.Dict, ast.Set, ast.Call), (path, node.lineno))
+
+    def test_walked_at_once(self):
+        for path, tree in trees():
+            walked = [id(node.iter) for node in ast.walk(tree) if isinstance(node, (ast.For, ast.comprehension))]
+            for node in ast.walk(tree):
+                if isinstance(node, ast.Call) and isinstance(node.func, ast.Name):
+                    if node.func.id in ("range", "zip", "enumerate", "reversed"):
+                        self.assertIn(id(node), walked, (path, node.lineno))
+                    self.assertNotIn(node.func.id, ("set", "frozenset"), (path, node.lineno))
 
     def test_statements_and_expressions(self):
         for path, node in nodes(ast.stmt):
@@ -61,6 +97,9 @@ class LanguageTest(unittest.TestCase):
             self.assertFalse(isinstance(node.op, ast.Pow) and not isinstance(node.right, ast.Constant), node.lineno)
         for path, node in nodes(ast.Constant):
             self.assertIsInstance(node.value, (int, str, type(None)), node.lineno)
+            self.assertNotIn("%", str(node.value), node.lineno)
+        for path, node in nodes(ast.ListComp):
+            self.assertEqual((len(node.generators), len(node.generators[0].ifs) <= 1), (1, True), node.lineno)
 
     def test_functions(self):
         for path, node in nodes(ast.FunctionDef):
@@ -72,7 +111,7 @@ class LanguageTest(unittest.TestCase):
         for path, tree in trees():
             bound = []
             for node in tree.body:
-                self.assertIsInstance(node, (ast.Expr, ast.FunctionDef, ast.ClassDef, ast.Assign))
+                self.assertIsInstance(node, (ast.Expr, ast.FunctionDef, ast.ClassDef, ast.Assign, ast.ImportFrom))
                 bound.append(node.targets[0].id if isinstance(node, ast.Assign) else getattr(node, "name", None))
             bound = [name for name in bound if name]
             self.assertEqual(len(bound), len(set(bound)), path)

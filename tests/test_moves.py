@@ -2,8 +2,7 @@
 
 import unittest
 
-from helper import HUGE, MOVE, RIGHTS, RING, RUN, SET, SETTLED, TOGETHER, ask, counters, last
-from rightring.lanes import Ring, begin, run, set_to, together
+from helper import HUGE, MOVE, RIGHTS, RING, RUN, SET, SETTLED, TOGETHER, ask, counters, last, moved
 
 
 class RightsTest(unittest.TestCase):
@@ -188,28 +187,28 @@ class RunTest(unittest.TestCase):
 
 
 class HowOftenEachMovedTest(unittest.TestCase):
-    def new_ring(self):
-        ring = Ring()
-        begin(ring, [3, 4])
-        set_to(ring, [3, 1, 3])
-        return ring
+    BEFORE = ((RING, 3, 4), (SET, [3, 1, 3]))
+
+    def test_move_counts_its_lane(self):
+        self.assertEqual(moved(*self.BEFORE, (MOVE, 2)), [0, 0, 1])
+        self.assertEqual(moved(*self.BEFORE, (MOVE, 0), (MOVE, 1), (MOVE, 2)), [1, 1, 1])
+        self.assertEqual(moved((RING, 2, 1), (MOVE, 0), (MOVE, 0)), [2, 0])
 
     def test_together_counts_each_lane(self):
-        ring = self.new_ring()
-        together(ring, [0, 2])
-        self.assertEqual(ring.moved, [1, 0, 1])
+        self.assertEqual(moved(*self.BEFORE, (TOGETHER, [0, 2])), [1, 0, 1])
 
     def test_run_counts_each_move(self):
-        ring = self.new_ring()
-        run(ring, [0, 0, 0])
-        self.assertEqual(ring.counters, [0, 0, 0])
-        self.assertEqual(ring.moved, [1, 1, 1])
+        calls = (*self.BEFORE, (RUN, [0, 0, 0]))
+        self.assertEqual(counters(calls, 3, 4), [0, 0, 0])
+        self.assertEqual(moved(*calls), [1, 1, 1])
+        self.assertEqual(moved((RING, 6, 16), (RUN, [1000000000] * 64)), [11, 11, 11, 11, 10, 10])
 
     def test_refusals_count_nothing(self):
-        ring = self.new_ring()
-        self.assertEqual(run(ring, [0, -1]), [-1])
-        self.assertEqual(together(ring, [1, 0]), [-1])
-        self.assertEqual(ring.moved, [0, 0, 0])
+        before = (*self.BEFORE, (MOVE, 1))
+        for refused, answer in (((RUN, [0, -1]), [-1]), ((RUN, [0] * 65), [-1]), ((TOGETHER, [2, 0]), [-1]),
+                                ((TOGETHER, [0, 1]), [-6]), ((MOVE, -1), [-1]), ((MOVE, 1), [-6])):
+            self.assertEqual(last(*before, refused), answer)
+            self.assertEqual(moved(*before, refused), [0, 1, 0])
 
 
 if __name__ == "__main__":

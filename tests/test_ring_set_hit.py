@@ -2,8 +2,7 @@
 
 import unittest
 
-from helper import HIT, HUGE, RIGHTS, RING, SET, SETTLED, ask, counters, last
-from rightring.lanes import Ring, begin, hit, make_step, move, set_to
+from helper import HIT, HUGE, MOVE, RIGHTS, RING, SET, SETTLED, TOGETHER, ask, counters, last, moved
 
 
 class RingTest(unittest.TestCase):
@@ -99,40 +98,29 @@ class HitTest(unittest.TestCase):
 
 
 class NobodyHasMovedTest(unittest.TestCase):
-    """How often each lane moved is kept in the ring."""
+    MOVED = ((RING, 3, 4), (SET, [0, 1, 2]), (TOGETHER, [1, 2]), (MOVE, 2))
 
-    def moved_ring(self):
-        ring = Ring()
-        begin(ring, [3, 4])
-        set_to(ring, [0, 1, 2])
-        make_step(ring, [1, 2])
-        self.assertEqual(move(ring, [2]), [0])
-        self.assertEqual(ring.moved, [0, 1, 2])
-        return ring
+    def test_they_have_moved(self):
+        self.assertEqual(ask(*self.MOVED)[2:], [[1, 2], [0]])
+        self.assertEqual(moved(*self.MOVED), [0, 1, 2])
 
-    def test_ring_begins_anew(self):
-        ring = self.moved_ring()
-        begin(ring, [4, 4])
-        self.assertEqual(ring.moved, [0] * 4)
+    def test_a_new_ring(self):
+        for n in range(2, 7):
+            self.assertEqual(moved((RING, n, 4)), [0] * n)
+            self.assertEqual(moved(*self.MOVED, (RING, n, 4)), [0] * n)
 
     def test_set_begins_anew(self):
-        ring = self.moved_ring()
-        set_to(ring, [0, 0, 0])
-        self.assertEqual(ring.moved, [0] * 3)
+        self.assertEqual(moved(*self.MOVED, (SET, [0, 0, 0])), [0] * 3)
 
     def test_hit_is_no_move(self):
-        ring = self.moved_ring()
-        hit(ring, [1, 3])
-        self.assertEqual(ring.moved, [0, 1, 2])
+        self.assertEqual(moved(*self.MOVED, (HIT, 1, 3)), [0, 1, 2])
+        self.assertEqual(moved((RING, 3, 4), (HIT, 1, 3), (HIT, 0, 0)), [0] * 3)
 
     def test_refusals_change_nothing(self):
-        ring = self.moved_ring()
-        self.assertEqual(begin(ring, [7, 4]), [-1])
-        self.assertEqual(set_to(ring, [0, 0, 4]), [-1])
-        self.assertEqual(set_to(ring, []), [-1])
-        self.assertEqual(move(ring, [3]), [-1])
-        self.assertEqual(ring.moved, [0, 1, 2])
-        self.assertEqual(ring.n, 3)
+        for refused in ((RING, 7, 4), (RING, 3, 0), (SET, [0, 0, 4]), (SET, []), (SET, [0] * 4), (HIT, 3, 0),
+                        (HIT, 0, 4), (MOVE, 3)):
+            self.assertEqual(last(*self.MOVED, refused), [-1])
+            self.assertEqual(moved(*self.MOVED, refused), [0, 1, 2])
 
 
 if __name__ == "__main__":
